@@ -1,0 +1,1 @@
+"""Poolmarks: the nearest ratings that obey an order."""

@@ -1,0 +1,151 @@
+"""Finds breaches of those rules of the language that a program can see.
+
+It covers what the package is most likely to break by mistake. It does not
+replace reading the rules.
+"""
+
+import ast
+import re
+import warnings
+
+BUILTINS = set(
+    "len range enumerate zip min max sum abs sorted reversed int str bool bytes list tuple dict set"
+    " frozenset isinstance ord repr any all divmod iter next super property staticmethod classmethod"
+    " Exception ValueError TypeError KeyError IndexError LookupError ZeroDivisionError"
+    " ArithmeticError OverflowError RuntimeError NotImplementedError AttributeError StopIteration"
+    " NotImplemented".split()
+)
+METHODS = re.compile(
+    "__(init|eq|repr|str|len|enter|exit|call|iter|lt|le|gt|ge|ne|neg|pos|invert|abs|bool|contains"
+    "|getitem|setitem|[ri]?(add|sub|mul|floordiv|mod|and|or|xor|lshift|rshift)|i?pow)__"
+)
+BARRED_NAMES = set(
+    "register mro elements open input law version_info with_traceback add_note attrgetter breakpoint"
+    " builtins compile copyright credits delattr dir eval exec exit gc getattr globals hasattr help id"
+    " importlib license locals methodcaller os quit setattr type vars sys format format_map".split()
+)
+BARRED_WORDS = re.compile(
+    r"\b(type|typing|typing_extensions|enum|Enum|IntEnum|StrEnum|Flag|IntFlag|Generic|Protocol|ABC|ABCMeta"
+    r"|namedtuple|NamedTuple|TypedDict|TYPE_CHECKING|abstractmethod)\b|dataclass|overload|contextmanager"
+)
+FUNCTIONS = (ast.FunctionDef, ast.Lambda)
+BARRED_NODES = (
+    ast.Global, ast.AsyncFunctionDef, ast.AsyncFor, ast.AsyncWith, ast.Await, ast.Import, ast.Div, ast.MatMult,
+)
+
+
+def breaches(source, package="poolmarks"):
+    """Return the rules that the text of one file breaks, as an ascending list."""
+    found = set(text_breaches(source))
+    try:
+        with warnings.catch_warnings():
+            warnings.simplefilter("error")
+            tree = ast.parse(source)
+            compile(source, "file", "exec")
+    except (SyntaxError, Warning):
+        return sorted(found | {"L27"})
+    found.update(module_breaches(tree, package))
+    for node in ast.walk(tree):
+        found.update(node_breaches(node))
+    found.update(name_breaches(tree))
+    return sorted(found)
+
+
+def text_breaches(source):
+    lines = source.split("\n")
+    if len(lines) - 1 > 399 or any(len(line) > 120 for line in lines) or "\t" in source:
+        yield "L10"
+    if any(char != "\n" and not " " <= char <= "~" for char in source):
+        yield "L14"
+    if BARRED_WORDS.search(source):
+        yield "L17"
+
+
+def is_docstring(node):
+    return isinstance(node, ast.Expr) and isinstance(node.value, ast.Constant) and isinstance(node.value.value, str)
+
+
+def is_plain_assignment(node):
+    return isinstance(node, ast.Assign) and len(node.targets) == 1 and isinstance(node.targets[0], ast.Name)
+
+
+def module_breaches(tree, package):
+    bound = []
+    begun = False
+    for at, node in enumerate(tree.body):
+        if isinstance(node, ast.ImportFrom):
+            bound += [alias.asname or alias.name for alias in node.names]
+            inside = (node.module or "").startswith(package + ".") or node.module == "__future__"
+            if begun or node.level or not inside or any(alias.name == "*" for alias in node.names):
+                yield "L2"
+        elif isinstance(node, (ast.FunctionDef, ast.ClassDef)):
+            bound.append(node.name)
+            begun = True
+        elif is_plain_assignment(node):
+            bound.append(node.targets[0].id)
+            begun = True
+        elif not (at == 0 and is_docstring(node)):
+            yield "L3"
+    if len(bound) != len(set(bound)):
+        yield "L15"
+
+
+def node_breaches(node):
+    if isinstance(node, BARRED_NODES):
+        yield "L2" if isinstance(node, ast.Import) else "L6"
+    if isinstance(node, ast.FunctionDef) and node.end_lineno - node.lineno + 1 > 40:
+        yield "L10"
+    if isinstance(node, FUNCTIONS) and node.args.posonlyargs:
+        yield "L4"
+    if isinstance(node, ast.FunctionDef) and node.name.startswith("__") and not METHODS.fullmatch(node.name):
+        yield "L5"
+    if isinstance(node, ast.Constant):
+        yield from constant_breaches(node.value)
+    if isinstance(node, ast.BinOp) and isinstance(node.op, ast.Pow):
+        if not isinstance(node.right, ast.Constant) or node.right.value not in range(65):
+            yield "L27"
+    if isinstance(node, ast.Compare):
+        for operator, right in zip(node.ops, node.comparators):
+            if isinstance(operator, (ast.Is, ast.IsNot)):
+                if not isinstance(right, ast.Constant) or right.value not in (None, True, False):
+                    yield "L20"
+    if isinstance(node, ast.ExceptHandler) and node.type is None:
+        yield "L6"
+
+
+def constant_breaches(value):
+    if isinstance(value, (float, complex)):
+        yield "L7"
+    if isinstance(value, str) and "%" in value:
+        yield "L27"
+
+
+def bound_names(tree):
+    """Yield each name that the file gives a meaning of its own."""
+    for node in ast.walk(tree):
+        if isinstance(node, (ast.FunctionDef, ast.ClassDef)):
+            yield node.name
+        elif isinstance(node, ast.arg):
+            yield node.arg
+        elif isinstance(node, ast.Name) and not isinstance(node.ctx, ast.Load):
+            yield node.id
+        elif isinstance(node, ast.alias):
+            yield node.asname or node.name
+        elif isinstance(node, ast.ExceptHandler) and node.name:
+            yield node.name
+
+
+def name_breaches(tree):
+    own = set(bound_names(tree))
+    for name in own:
+        if name.startswith("_") and not METHODS.fullmatch(name) and name not in ("__all__", "__version__"):
+            yield "L12"
+        if name in BARRED_NAMES:
+            yield "L17"
+        if name in BUILTINS:
+            yield "L8"
+    for node in ast.walk(tree):
+        if isinstance(node, ast.Name) and node.id not in own and node.id not in BUILTINS:
+            yield "L8"
+        if isinstance(node, ast.Attribute) and node.attr.startswith("_") and not METHODS.fullmatch(node.attr):
+            yield "L12"
