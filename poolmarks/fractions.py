@@ -27,6 +27,13 @@ def is_fraction(value):
     return denominator >= 1 and common_divisor(numerator, denominator) == 1
 
 
+def are_fractions(value, size):
+    """Return whether any value is a tuple of this many fractions."""
+    if not isinstance(value, tuple) or len(value) != size:
+        return False
+    return all([is_fraction(part) for part in value])
+
+
 def make_fraction(numerator, denominator):
     """Return the fraction for numerator / denominator."""
     if denominator == 0:

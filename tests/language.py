@@ -5,6 +5,7 @@ replace reading the rules.
 """
 
 import ast
+import builtins
 import re
 import warnings
 
@@ -28,6 +29,17 @@ BARRED_WORDS = re.compile(
     r"\b(type|typing|typing_extensions|enum|Enum|IntEnum|StrEnum|Flag|IntFlag|Generic|Protocol|ABC|ABCMeta"
     r"|namedtuple|NamedTuple|TypedDict|TYPE_CHECKING|abstractmethod)\b|dataclass|overload|contextmanager"
 )
+VALUE_METHODS = set(
+    "append clear copy count endswith extend find get index insert isalnum isalpha isdigit islower isspace isupper"
+    " items join keys ljust lower lstrip partition pop remove replace reverse rfind rjust rpartition rsplit rstrip"
+    " setdefault split splitlines startswith strip update upper values zfill bit_length title capitalize swapcase"
+    " casefold center expandtabs removeprefix removesuffix rindex isascii isdecimal isnumeric istitle isidentifier"
+    " isprintable translate add discard sort encode decode hex".split()
+)
+ITERATED_AT_ONCE = set("zip enumerate reversed range items keys values".split())
+ITERATING = set("list tuple dict sorted sum any all enumerate zip min max join".split())
+# A class with __eq__ makes generator expressions in these a breach, so none is used.
+TAKING_LISTS = set("any all min max sum sorted".split())
 FUNCTIONS = (ast.FunctionDef, ast.Lambda)
 BARRED_NODES = (
     ast.Global, ast.AsyncFunctionDef, ast.AsyncFor, ast.AsyncWith, ast.Await, ast.Import, ast.Div, ast.MatMult,
@@ -48,6 +60,8 @@ def breaches(source, package="poolmarks"):
     for node in ast.walk(tree):
         found.update(node_breaches(node))
     found.update(name_breaches(tree))
+    found.update(scope_breaches(tree))
+    found.update(call_breaches(tree))
     return sorted(found)
 
 
@@ -149,3 +163,45 @@ def name_breaches(tree):
             yield "L8"
         if isinstance(node, ast.Attribute) and node.attr.startswith("_") and not METHODS.fullmatch(node.attr):
             yield "L12"
+
+
+def scope_breaches(tree):
+    """Yield the rule on names for functions whose names hide an import, a class or a builtin."""
+    outer = {node.name for node in ast.walk(tree) if isinstance(node, ast.ClassDef)}
+    outer.update(alias.asname or alias.name for node in ast.walk(tree) if isinstance(node, ast.ImportFrom)
+                 for alias in node.names)
+    for node in ast.walk(tree):
+        if isinstance(node, ast.FunctionDef):
+            inner = set(bound_names(node)) - {node.name}
+            if inner & outer or inner & set(dir(builtins)):
+                yield "L15"
+
+
+def called_name(node):
+    """Return the name of the function or method that a node calls, or None."""
+    if not isinstance(node, ast.Call):
+        return None
+    if isinstance(node.func, ast.Attribute):
+        return node.func.attr
+    return node.func.id if isinstance(node.func, ast.Name) else None
+
+
+def call_breaches(tree):
+    own = {node.name for node in ast.walk(tree) if isinstance(node, ast.FunctionDef)}
+    for node in ast.walk(tree):
+        called = called_name(node)
+        if called and isinstance(node.func, ast.Attribute) and called not in VALUE_METHODS | own:
+            yield "L25"
+        for name, child in ast.iter_fields(node):
+            for part in child if isinstance(child, list) else [child]:
+                if called_name(part) in ITERATED_AT_ONCE - own and not iterates(node, name):
+                    yield "L23"
+                if isinstance(part, ast.GeneratorExp) and (called in TAKING_LISTS or called not in ITERATING):
+                    yield "L7"
+
+
+def iterates(node, name):
+    """Return whether what stands in this field of the node is iterated at once."""
+    if isinstance(node, ast.Compare):
+        return isinstance(node.ops[0], (ast.In, ast.NotIn))
+    return name == "iter" or called_name(node) in ITERATING | {"reversed", "len"}
