@@ -142,3 +142,77 @@ def leads_to(rules, start, end):
     for item in seen:
         seen += [high for low, high in rules if low == item and high not in seen]
     return end in seen
+
+
+def rating_by_amounts(panel, amounts):
+    """Return the numbers mark - outflow / weight for amounts that are numbers."""
+    values = []
+    for item, (mark, weight) in enumerate(panel[0]):
+        out = [amount for (low, high), amount in zip(panel[1], amounts) if low == item]
+        back = [amount for (low, high), amount in zip(panel[1], amounts) if high == item]
+        values.append(mark - (sum(out, Fraction(0)) - sum(back, Fraction(0))) / weight)
+    return values
+
+
+def supports(panel, values, amounts):
+    """Return whether amounts that are numbers support a rating that is numbers."""
+    if not obeys(panel, values) or rating_by_amounts(panel, amounts) != values:
+        return False
+    pairs = list(zip(panel[1], amounts))
+    return all(amount == 0 or amount > 0 and values[low] == values[high] for (low, high), amount in pairs)
+
+
+def corner_amounts(panel, values):
+    """Return the amounts, as numbers, that support the rating and use rules which form no ring.
+
+    A ring is meant in whatever direction its rules lead. All other supporting
+    amounts are averages of these, plus something around cycles. So the least
+    amount of a rule, and the greatest if there is one, are found here.
+    """
+    tight = [at for at, (low, high) in enumerate(panel[1]) if values[low] == values[high]]
+    found = []
+    for size in range(min(len(tight), len(panel[0]) - 1) + 1):
+        for used in itertools.combinations(tight, size):
+            amounts = forest_amounts(panel, values, used)
+            if amounts is not None and supports(panel, values, amounts):
+                found.append(amounts)
+    return found
+
+
+def forest_amounts(panel, values, used):
+    """Return the only amounts at these rules that can lead to the rating, or None if the rules form a ring."""
+    left = needs_of(panel, values)
+    used = list(used)
+    amounts = [Fraction(0)] * len(panel[1])
+    while used:
+        ends = [item for at in used for item in panel[1][at]]
+        leaf = next((item for item in ends if ends.count(item) == 1), None)
+        if leaf is None:
+            return None
+        at = next(at for at in used if leaf in panel[1][at])
+        used.remove(at)
+        low, high = panel[1][at]
+        amounts[at] = left[low] if leaf == low else -left[high]
+        left[low] -= amounts[at]
+        left[high] += amounts[at]
+    return amounts
+
+
+def row_by_averages(row):
+    """Return the best rating of a row: averages of neighbouring items limit each of them."""
+    totals, weights = [0], [0]
+    for mark, weight in row:
+        totals.append(totals[-1] + mark * weight)
+        weights.append(weights[-1] + weight)
+    size = len(row)
+
+    def average_from(first, last):
+        return Fraction(totals[last + 1] - totals[first], weights[last + 1] - weights[first])
+
+    # The least average from first on, of all stretches that end at item or later.
+    least = [[None] * size for first in range(size)]
+    for first in range(size):
+        for last in range(size - 1, first - 1, -1):
+            here = average_from(first, last)
+            least[first][last] = here if last == size - 1 else min(here, least[first][last + 1])
+    return [max(least[first][item] for first in range(item + 1)) for item in range(size)]

@@ -72,6 +72,21 @@ EXAMPLES = {
 >>> level_groups(P)
 (((2, 1), (0, 1)), ((3, 1), (2,)))
 """,
+    18: """
+>>> from poolmarks.amounts import rating_of_amounts
+>>> rating_of_amounts(P, ((2, 1), (0, 1)))
+((2, 1), (2, 1), (3, 1))
+""",
+    19: """
+>>> from poolmarks.amounts import supports_rating
+>>> supports_rating(P, ((2, 1), (2, 1), (3, 1)), ((2, 1), (0, 1)))
+True
+""",
+    20: """
+>>> from poolmarks.amounts import find_amounts
+>>> find_amounts(P, ((2, 1), (2, 1), (3, 1)))
+((2, 1), (0, 1))
+""",
     24: """
 >>> from poolmarks.thresholds import surplus_of
 >>> surplus_of(P, (1, 2), (5, 2))
@@ -82,8 +97,47 @@ EXAMPLES = {
 >>> top_sets(P, (2, 1))
 ((2,), (0, 1, 2))
 """,
+    28: """
+>>> from poolmarks.rules import without_rule
+>>> without_rule(P, 0)
+(((4, 1), (0, 1), (3, 2)), ((1, 2),))
+""",
+    29: """
+>>> from poolmarks.rules import amount_range
+>>> amount_range(P, 0)
+((2, 1), (2, 1))
+""",
+    30: """
+>>> from poolmarks.rules import idle_rules
+>>> idle_rules(P)
+(1,)
+""",
+    37: """
+>>> from poolmarks.rows import start_blocks
+>>> start_blocks(((4, 1), (0, 1), (3, 2)))
+((1, 4, 1), (1, 0, 1), (1, 6, 2))
+""",
+    38: """
+>>> from poolmarks.rows import falling_places
+>>> falling_places(((1, 4, 1), (1, 0, 1), (1, 6, 2)))
+(0,)
+""",
+    39: """
+>>> from poolmarks.rows import merge_blocks
+>>> merge_blocks(((1, 4, 1), (1, 0, 1), (1, 6, 2)), 0)
+((2, 4, 2), (1, 6, 2))
+""",
+    40: """
+>>> from poolmarks.rows import pool_row
+>>> pool_row(((4, 1), (0, 1), (3, 2)))
+((2, 4, 2), (1, 6, 2))
+""",
+    41: """
+>>> from poolmarks.rows import rate_row
+>>> rate_row(((4, 1), (0, 1), (3, 2)))
+((2, 1), (2, 1), (3, 1))
+""",
 }
-
 
 README = pathlib.Path(__file__).resolve().parent.parent / "README.md"
 
