@@ -4,6 +4,7 @@ Nothing here uses the package.
 """
 
 import itertools
+import math
 from fractions import Fraction
 
 
@@ -19,6 +20,18 @@ def numbers(fractions):
 def told(value):
     """Return the package's fraction for a number."""
     return (value.numerator, value.denominator)
+
+
+def are_fractions(value, size):
+    """Return whether any value is a tuple of this many fractions by point 4."""
+    if type(value) is not tuple or len(value) != size:
+        return False
+    for part in value:
+        if type(part) is not tuple or [type(k) for k in part] != [int, int]:
+            return False
+        if part[1] < 1 or math.gcd(*part) != 1:
+            return False
+    return True
 
 
 def all_groups(panel):

@@ -4,7 +4,7 @@ import random
 import unittest
 
 from cases import CallCase
-from oracles import corner_amounts, is_best, number, numbers, obeys, rating_by_amounts, supports, told
+from oracles import are_fractions, corner_amounts, is_best, number, numbers, obeys, rating_by_amounts, supports, told
 from poolmarks import amounts
 from poolmarks.amounts import find_amounts, rating_of_amounts, supports_rating
 from poolmarks.ratings import best_rating
@@ -39,18 +39,6 @@ def long_amounts(seed, many):
         lowest_terms(source.choice((-1, 1)) * source.randrange(low, high), source.randrange(low, high))
         for k in range(many)
     )
-
-
-def is_amounts(panel, value):
-    """Return whether a value is amounts of the panel, without the package."""
-    if type(value) is not tuple or len(value) != len(panel[1]):
-        return False
-    for part in value:
-        if type(part) is not tuple or [type(k) for k in part] != [int, int]:
-            return False
-        if part[1] < 1 or lowest_terms(*part) != part:
-            return False
-    return True
 
 
 def replaced(value, at, part):
@@ -108,7 +96,7 @@ class TestRatingOfAmounts(CallCase):
 
 class TestSupportsRating(CallCase):
     def check_value(self, panel, rating, value):
-        expected = is_amounts(panel, value) and supports(panel, numbers(rating), numbers(value))
+        expected = are_fractions(value, len(panel[1])) and supports(panel, numbers(rating), numbers(value))
         self.assertIs(self.call(supports_rating, panel, rating, value), expected)
         return expected
 
@@ -258,7 +246,7 @@ class TestFindAmounts(CallCase):
     def check_found(self, panel, rating):
         found = self.call(find_amounts, panel, rating)
         self.check_fractions(found, len(panel[1]))
-        self.assertTrue(is_amounts(panel, found))
+        self.assertTrue(are_fractions(found, len(panel[1])))
         self.assertTrue(supports(panel, numbers(rating), numbers(found)))
         self.assertIs(supports_rating(panel, rating, found), True)
 

@@ -4,7 +4,7 @@ import random
 import unittest
 
 from cases import CallCase
-from oracles import cost, is_best, number, numbers, obeys, rating_by_averages, told
+from oracles import are_fractions, cost, is_best, number, numbers, obeys, rating_by_averages, told
 from poolmarks import ratings
 from poolmarks.panels import average_of
 from poolmarks.ratings import best_rating, cost_of, level_groups, obeys_rules
@@ -13,18 +13,6 @@ from samples import any_values, drawn_fractions, drawn_panels, edge_panels, know
 from samples import large_fractions, lowest_terms, small_fractions
 
 BEST = ((2, 1), (2, 1), (3, 1))
-
-
-def is_rating(panel, value):
-    """Return whether a value is a rating, by texts: these tell True from 1 and a list from a tuple."""
-    if type(value) is not tuple or len(value) != len(panel[0]):
-        return False
-    for part in value:
-        if type(part) is not tuple or [type(k) for k in part] != [int, int] or part[1] < 1:
-            return False
-        if lowest_terms(*part) != part:
-            return False
-    return True
 
 
 def drawn_ratings(seed, panel, many):
@@ -65,7 +53,7 @@ def obeying_ratings(seed, panel, many):
 
 class TestObeysRules(CallCase):
     def check_value(self, panel, value):
-        expected = is_rating(panel, value) and obeys(panel, numbers(value))
+        expected = are_fractions(value, len(panel[0])) and obeys(panel, numbers(value))
         self.assertIs(self.call(obeys_rules, panel, value), expected)
 
     def test_drawn_ratings(self):
@@ -171,7 +159,7 @@ class TestBestRating(CallCase):
     def check_best(self, panel):
         found = self.call(best_rating, panel)
         self.check_fractions(found, len(panel[0]))
-        self.assertTrue(is_rating(panel, found))
+        self.assertTrue(are_fractions(found, len(panel[0])))
         self.assertIs(obeys_rules(panel, found), True)
         self.assertTrue(is_best(panel, numbers(found)))
 
