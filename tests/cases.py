@@ -4,8 +4,30 @@ import copy
 import time
 import unittest
 
+from poolmarks.books import Book
+from samples import P
+
 # A call that needs seconds has gone wrong; the slowest ones need some hundredths.
 SECONDS = 2
+
+
+def answers(book):
+    """Return what a book answers to the queries that depend on its panel only."""
+    return (book.panel(), book.rating(), book.levels(), book.cost(), book.idle())
+
+
+def snapshot(book):
+    """Return everything that a book tells."""
+    states = tuple(book.state_at(step) for step in range(len(book) + 1))
+    return (*answers(book), book.actions(), states, book.log(), len(book), str(book))
+
+
+def sixty(panel=P):
+    """Return a book that keeps as many actions as it may."""
+    book = Book(panel)
+    for step in range(60):
+        book.set_mark(step % len(panel[0]), step)
+    return book
 
 
 class CallCase(unittest.TestCase):
@@ -43,4 +65,3 @@ class CallCase(unittest.TestCase):
         for name in names:
             with self.subTest(name=name):
                 self.assertEqual(getattr(module, name).__module__, module.__name__)
-

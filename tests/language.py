@@ -40,7 +40,9 @@ ITERATED_AT_ONCE = set("zip enumerate reversed range items keys values".split())
 ITERATING = set("list tuple dict sorted sum any all enumerate zip min max join".split())
 # A class with __eq__ makes generator expressions in these a breach, so none is used.
 TAKING_LISTS = set("any all min max sum sorted".split())
+CAUGHT = set("KeyError ZeroDivisionError StopIteration ValueError LookupError IndexError".split())
 FUNCTIONS = (ast.FunctionDef, ast.Lambda)
+CHANGING = (ast.Assign, ast.AugAssign, ast.AnnAssign, ast.Delete, ast.For, ast.While, ast.NamedExpr)
 BARRED_NODES = (
     ast.Global, ast.AsyncFunctionDef, ast.AsyncFor, ast.AsyncWith, ast.Await, ast.Import, ast.Div, ast.MatMult,
 )
@@ -62,6 +64,9 @@ def breaches(source, package="poolmarks"):
     found.update(name_breaches(tree))
     found.update(scope_breaches(tree))
     found.update(call_breaches(tree))
+    found.update(error_breaches(tree))
+    found.update(method_breaches(tree))
+    found.update(table_breaches(tree))
     return sorted(found)
 
 
@@ -205,3 +210,84 @@ def iterates(node, name):
     if isinstance(node, ast.Compare):
         return isinstance(node.ops[0], (ast.In, ast.NotIn))
     return name == "iter" or called_name(node) in ITERATING | {"reversed", "len"}
+
+
+def is_simple(node):
+    """Return whether a node is one that a finally block may assign or append."""
+    if isinstance(node, (ast.List, ast.Tuple)):
+        return all(is_simple(part) for part in node.elts)
+    if isinstance(node, ast.BinOp):
+        return isinstance(node.op, ast.Add) and is_simple(node.left) and is_simple(node.right)
+    if isinstance(node, ast.Attribute):
+        return isinstance(node.value, (ast.Name, ast.Attribute))
+    return isinstance(node, (ast.Name, ast.Constant))
+
+
+def is_final(node):
+    """Return whether a statement may stand in a finally block; conditions are not used there."""
+    if isinstance(node, ast.Assign):
+        return len(node.targets) == 1 and is_simple(node.targets[0]) and is_simple(node.value)
+    if isinstance(node, ast.Expr) and called_name(node.value) in ("append", "clear"):
+        return all(is_simple(part) for part in node.value.args)
+    return isinstance(node, ast.Pass)
+
+
+def error_breaches(tree):
+    """Yield the rules on raising and catching errors, and on finally."""
+    barred = {name for name in BUILTINS if name.endswith(("Error", "Exception"))} - CAUGHT
+    for node in ast.walk(tree):
+        if isinstance(node, ast.Raise) and node.exc is not None:
+            if not isinstance(node.exc, ast.Call) or not isinstance(node.exc.func, ast.Name):
+                yield "L19"
+            elif any(isinstance(part, ast.Starred) for part in node.exc.args):
+                yield "L7"
+        if isinstance(node, ast.ExceptHandler) and node.type is not None:
+            named = node.type.elts if isinstance(node.type, ast.Tuple) else [node.type]
+            if not named or any(not isinstance(part, ast.Name) or part.id in barred for part in named):
+                yield "L19"
+        if isinstance(node, ast.Try) and not all(is_final(part) for part in node.finalbody):
+            yield "L6"
+
+
+def method_breaches(tree):
+    """Yield the rule on double-underscore methods that assign something or do not end with a return."""
+    for node in ast.walk(tree):
+        if not isinstance(node, ast.FunctionDef):
+            continue
+        if node.name in ("__eq__", "__str__", "__repr__", "__len__"):
+            if any(isinstance(part, CHANGING) for part in ast.walk(node)) or not isinstance(node.body[-1], ast.Return):
+                yield "L28"
+        if node.name == "__init__" and any(isinstance(part, ast.Return) for part in ast.walk(node)):
+            yield "L28"
+
+
+def table_breaches(tree):
+    """Yield the rule on lists and dicts at module level that are not only read."""
+    tables = {node.targets[0].id for node in tree.body if is_plain_assignment(node)
+              and isinstance(node.value, (ast.Dict, ast.List))}
+    for node in ast.walk(tree):
+        for name, child in ast.iter_fields(node):
+            for part in child if isinstance(child, list) else [child]:
+                if isinstance(part, ast.Name) and part.id in tables and isinstance(part.ctx, ast.Load):
+                    if not reads(node, name):
+                        yield "L15"
+
+
+def reads(node, name):
+    """Return whether what stands in this field of the node is only read."""
+    if isinstance(node, ast.Subscript):
+        return name == "value" and isinstance(node.ctx, ast.Load)
+    if isinstance(node, ast.Attribute):
+        return node.attr in ("get", "items", "keys", "values", "index", "count")
+    return isinstance(node, ast.Compare) or name == "iter" or called_name(node) in ("len", "list", "dict", "sorted")
+
+
+def class_names(tree):
+    """Yield (kind, name) for each method and each attribute that the classes of a file have."""
+    for node in ast.walk(tree):
+        if isinstance(node, ast.ClassDef):
+            for part in node.body:
+                if isinstance(part, ast.FunctionDef):
+                    yield "method", part.name
+        if isinstance(node, ast.Attribute) and isinstance(node.ctx, ast.Store):
+            yield "attribute", node.attr

@@ -5,7 +5,7 @@ import pathlib
 import re
 import unittest
 
-from language import breaches
+from language import breaches, class_names
 
 PACKAGE = pathlib.Path(__file__).resolve().parent.parent / "poolmarks"
 
@@ -23,6 +23,9 @@ WRONG = (
     ("def half(n):\n    return n / 2\n", "L6"),
     ("def half(n):\n    return n * 0.5\n", "L7"),
     ("def most(xs):\n    return any(x > 1 for x in xs)\n", "L7"),
+    ("def f(x):\n    try:\n        x.pop()\n    finally:\n        x.pop()\n", "L6"),
+    ("def f(x, y):\n    try:\n        x.pop()\n    finally:\n        y = x[0]\n", "L6"),
+    ("def f(x):\n    raise ValueError(*x)\n", "L7"),
     ("def shown(x):\n    return hash(x)\n", "L8"),
     ("def sum(x):\n    return x\n", "L8"),
     ("def long():\n" + "    pass\n" * 40, "L10"),
@@ -33,8 +36,15 @@ WRONG = (
     ("A = 1\nA = 2\n", "L15"),
     ("from poolmarks.bounds import ROW\n\n\ndef f(ROW):\n    return ROW\n", "L15"),
     ("def f(x):\n    round = x\n    return round\n", "L15"),
+    ("A = {}\n\n\ndef f():\n    return A\n", "L15"),
+    ("A = []\n\n\ndef f(x):\n    A.append(x)\n", "L15"),
+    ("A = {}\n\n\ndef f(x):\n    A[x] = 1\n", "L15"),
     ("# the type of a value\n", "L17"),
     ("def id(x):\n    return x\n", "L17"),
+    ("def f(x):\n    raise x\n", "L19"),
+    ("def f(x):\n    raise x.wrong()\n", "L19"),
+    ("def f(x):\n    try:\n        x.pop()\n    except Exception:\n        pass\n", "L19"),
+    ("def f(x):\n    try:\n        x.pop()\n    except (KeyError, TypeError):\n        pass\n", "L19"),
     ("def same(a, b):\n    return a is b\n", "L20"),
     ("def f(xs):\n    ys = reversed(xs)\n    return ys\n", "L23"),
     ("def g(xs):\n    return xs\n\n\ndef f(n):\n    return g(range(n))\n", "L23"),
@@ -42,6 +52,9 @@ WRONG = (
     ("def f(xs):\n    return xs.union(xs)\n", "L25"),
     ("A = '%'\n", "L27"),
     ("def power(n):\n    return 2 ** n\n", "L27"),
+    ("class Box:\n    def __str__(self):\n        text = str(self.n)\n        return text\n", "L28"),
+    ("class Box:\n    def __len__(self):\n        if self.n:\n            return 1\n", "L28"),
+    ("class Box:\n    def __init__(self):\n        return None\n", "L28"),
 )
 
 
@@ -93,6 +106,15 @@ class TestPackage(unittest.TestCase):
             self.assertTrue(free, f"these import from each other: {sorted(left)}")
             for name in free:
                 del left[name]
+
+
+    def test_no_name_is_a_method_and_an_attribute(self):
+        found = {pair for source in sources().values() for pair in class_names(ast.parse(source))}
+        methods = {name for kind, name in found if kind == "method"}
+        attributes = {name for kind, name in found if kind == "attribute"}
+        self.assertIn("rating", methods)
+        self.assertIn("item", attributes)
+        self.assertEqual(methods & attributes, set())
 
 
 class TestBreaches(unittest.TestCase):
