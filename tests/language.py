@@ -48,8 +48,11 @@ BARRED_NODES = (
 )
 
 
-def breaches(source, package="poolmarks"):
-    """Return the rules that the text of one file breaks, as an ascending list."""
+def breaches(source, package="poolmarks", methods=()):
+    """Return the rules that the text of one file breaks, as an ascending list.
+
+    methods are those of the classes in all files of the package.
+    """
     found = set(text_breaches(source))
     try:
         with warnings.catch_warnings():
@@ -63,7 +66,7 @@ def breaches(source, package="poolmarks"):
         found.update(node_breaches(node))
     found.update(name_breaches(tree))
     found.update(scope_breaches(tree))
-    found.update(call_breaches(tree))
+    found.update(call_breaches(tree, methods))
     found.update(error_breaches(tree))
     found.update(method_breaches(tree))
     found.update(table_breaches(tree))
@@ -191,8 +194,8 @@ def called_name(node):
     return node.func.id if isinstance(node.func, ast.Name) else None
 
 
-def call_breaches(tree):
-    own = {node.name for node in ast.walk(tree) if isinstance(node, ast.FunctionDef)}
+def call_breaches(tree, methods):
+    own = {node.name for node in ast.walk(tree) if isinstance(node, ast.FunctionDef)} | set(methods)
     for node in ast.walk(tree):
         called = called_name(node)
         if called and isinstance(node.func, ast.Attribute) and called not in VALUE_METHODS | own:

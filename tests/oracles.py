@@ -229,3 +229,49 @@ def row_by_averages(row):
             here = average_from(first, last)
             least[first][last] = here if last == size - 1 else min(here, least[first][last + 1])
     return [max(least[first][item] for first in range(item + 1)) for item in range(size)]
+
+
+def force(panel, values, group, side):
+    """Return the force on a group for a rating that is numbers, or None if it cannot move to the side."""
+    for low, high in panel[1]:
+        first, second = (low, high) if side == "up" else (high, low)
+        if first in group and second not in group and values[low] == values[high]:
+            return None
+    total = sum((panel[0][item][1] * (panel[0][item][0] - values[item]) for item in group), Fraction(0))
+    return total if side == "up" else -total
+
+
+def drawn_groups(panel, values):
+    """Return each (group, side) that is drawn, for a rating that is numbers."""
+    pairs = [(group, side) for group in all_groups(panel)[1:] for side in ("up", "down")]
+    return [pair for pair in pairs if (force(panel, values, *pair) or 0) > 0]
+
+
+def are_witnesses(panel, item, value, up, down):
+    """Return whether a number and two groups are witnesses of an item, by the words of point 26."""
+    if not (goes_up(panel, up) and item in up and goes_down(panel, down) and item in down):
+        return False
+    for group in all_groups(panel):
+        if item in group and goes_down(panel, group):
+            if average(panel, [other for other in group if other in up]) < value:
+                return False
+        if item in group and goes_up(panel, group):
+            if average(panel, [other for other in group if other in down]) > value:
+                return False
+    return True
+
+
+def spread(panel, whole):
+    return sum(weight * abs(value - mark) for (mark, weight), value in zip(panel[0], whole))
+
+
+def whole_ratings(panel, values):
+    """Return all whole ratings with these integers that obey the rules."""
+    return [whole for whole in itertools.product(values, repeat=len(panel[0])) if obeys(panel, whole)]
+
+
+def median_ratings(panel, values):
+    """Return those whole ratings with these integers that obey the rules and have the least spread among them."""
+    found = whole_ratings(panel, values)
+    least = min(spread(panel, whole) for whole in found)
+    return [whole for whole in found if spread(panel, whole) == least]

@@ -219,3 +219,33 @@ def near_fractions(fraction):
         for step in (2, 10 ** 12, 10 ** 380)
         for sign in (-1, 1)
     ]
+
+
+def obeying(panel, values):
+    """Return the numbers raised as little as needed to obey the rules."""
+    values = list(values)
+    for time in panel[0]:
+        for low, high in panel[1]:
+            values[high] = max(values[low], values[high])
+    return values
+
+
+def obeying_ratings(seed, panel, best):
+    """Return ratings that obey the rules, most of them not the best one, which is given."""
+    source = random.Random(seed)
+    best = [Fraction(*value) for value in best]
+    size = len(best)
+    far = [Fraction(10 ** 40), Fraction(-(10 ** 40)), Fraction(0), Fraction(7, 3)]
+    found = [[value] * size for value in far + best]
+    found += [obeying(panel, [Fraction(mark) for mark, weight in panel[0]])]
+    for time in range(6):
+        other = obeying(panel, [source.choice(best) + source.randint(-3, 3) for item in best])
+        found.append(other)
+        found.append([(one + two) / 2 for one, two in zip(best, other)])
+        # Next to the best rating, at one side or at both.
+        step = Fraction(source.choice((-1, 1)), 10 ** source.choice((2, 30, 300)))
+        chosen = source.randrange(size)
+        found.append(obeying(panel, [value + step * (item == chosen) for item, value in enumerate(best)]))
+        found.append([one + (two - one) * abs(step) for one, two in zip(best, other)])
+    found.append(obeying(panel, [Fraction(*value) for value in drawn_fractions(seed, size)]))
+    return [tuple((value.numerator, value.denominator) for value in values) for values in found]

@@ -87,6 +87,21 @@ True
 >>> find_amounts(P, ((2, 1), (2, 1), (3, 1)))
 ((2, 1), (0, 1))
 """,
+    21: r"""
+>>> from poolmarks.judgements import group_force
+>>> group_force(P, ((3, 1), (3, 1), (3, 1)), (0, 1), 'down'), group_force(P, ((3, 1), (3, 1), (3, 1)), (1,), 'down')
+((2, 1), None)
+""",
+    22: r"""
+>>> from poolmarks.judgements import judge_rating
+>>> judge_rating(P, ((2, 1), (2, 1), (3, 1)))
+('best', ((2, 1), (0, 1)))
+""",
+    23: r"""
+>>> from poolmarks.judgements import check_judgement
+>>> check_judgement(P, ((3, 1), (3, 1), (3, 1)), ('drawn', (0, 1, 2), 'down'))
+True
+""",
     24: r"""
 >>> from poolmarks.thresholds import surplus_of
 >>> surplus_of(P, (1, 2), (5, 2))
@@ -96,6 +111,16 @@ True
 >>> from poolmarks.thresholds import top_sets
 >>> top_sets(P, (2, 1))
 ((2,), (0, 1, 2))
+""",
+    26: r"""
+>>> from poolmarks.witnesses import find_witnesses
+>>> find_witnesses(P, 0)
+((2, 1), (0, 1, 2), (0, 1))
+""",
+    27: r"""
+>>> from poolmarks.witnesses import check_witnesses
+>>> check_witnesses(P, 0, ((2, 1), (0, 1, 2), (0, 1)))
+True
 """,
     28: r"""
 >>> from poolmarks.rules import without_rule
@@ -121,6 +146,26 @@ True
 >>> from poolmarks.growth import mark_to_reach
 >>> mark_to_reach(P, 0, 1, (3, 1)), mark_to_reach(P, 2, 0, (3, 1)), mark_to_reach(P, 0, 2, (1, 1))
 (('from', (6, 1)), ('never',), ('always',))
+""",
+    33: r"""
+>>> from poolmarks.medians import spread_of
+>>> spread_of(P, (0, 0, 3))
+4
+""",
+    34: r"""
+>>> from poolmarks.medians import least_spread
+>>> least_spread(P)
+4
+""",
+    35: r"""
+>>> from poolmarks.medians import highest_median, lowest_median
+>>> lowest_median(P), highest_median(P)
+((0, 0, 3), (3, 3, 3))
+""",
+    36: r"""
+>>> from poolmarks.medians import is_median
+>>> is_median(P, (2, 2, 3)), is_median(P, (4, 4, 4))
+(True, False)
 """,
     37: r"""
 >>> from poolmarks.rows import start_blocks
@@ -253,6 +298,20 @@ raises ParseError(0)
 >>> from poolmarks.texts import parse_panel
 >>> parse_panel('item 4 1\nrule 0 1\n')
 raises ParseError(1)
+""",
+    60: r"""
+>>> from poolmarks.books import Book
+>>> from poolmarks.consoles import Console
+>>> B = Book(P)
+>>> Console(B).execute('reach 0 1 3')
+'6'
+""",
+    61: r"""
+>>> from poolmarks.books import Book
+>>> from poolmarks.consoles import Console
+>>> B = Book(P)
+>>> Console(B).transcript()
+()
 """,
 }
 

@@ -87,10 +87,15 @@ class TestPackage(unittest.TestCase):
             with self.subTest(name=name):
                 self.assertTrue(re.fullmatch(r"[a-z][a-z0-9_]*\.py|__init__\.py", name))
 
+    def names(self, wanted):
+        """Return the names of all methods or of all attributes of the package."""
+        pairs = [pair for source in sources().values() for pair in class_names(ast.parse(source))]
+        return {name for kind, name in pairs if kind == wanted}
+
     def test_no_file_breaks_a_rule(self):
         for name, source in sources().items():
             with self.subTest(name=name):
-                self.assertEqual(breaches(source), [])
+                self.assertEqual(breaches(source, methods=self.names("method")), [])
 
     def test_imports_name_the_file_that_defines_the_name(self):
         found = sources()
@@ -109,9 +114,7 @@ class TestPackage(unittest.TestCase):
 
 
     def test_no_name_is_a_method_and_an_attribute(self):
-        found = {pair for source in sources().values() for pair in class_names(ast.parse(source))}
-        methods = {name for kind, name in found if kind == "method"}
-        attributes = {name for kind, name in found if kind == "attribute"}
+        methods, attributes = self.names("method"), self.names("attribute")
         self.assertIn("rating", methods)
         self.assertIn("item", attributes)
         self.assertEqual(methods & attributes, set())
